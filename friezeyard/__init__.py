@@ -1,0 +1,1 @@
+"""Friezeyard: floors cut into triangles, and the numbers that belong to them."""

@@ -1,0 +1,66 @@
+"""Floors made here from the document's words alone, without the program under test."""
+
+from itertools import combinations
+
+SIXTY = 10 ** 60 - 1  # the greatest whole number of sixty figures
+
+
+def all_pairs(n):
+    return list(combinations(range(n), 2))
+
+
+def sides_of(n):
+    return sorted([(c, c + 1) for c in range(n - 1)] + [(0, n - 1)])
+
+
+def lines_of(n):
+    return [p for p in all_pairs(n) if p not in sides_of(n)]
+
+
+def do_cross(p, q):
+    """Two pairs without a common corner cross where just one corner of the second lies within the first."""
+    if set(p) & set(q):
+        return False
+    return len([c for c in q if p[0] < c < p[1]]) == 1
+
+
+def uncrossed_sets(n):
+    """All sets of lines of the floor without two that cross, each as a sorted tuple."""
+    found = [()]
+    for line in lines_of(n):
+        found += [old + (line,) for old in found if not any(do_cross(line, other) for other in old)]
+    return found
+
+
+def all_cuttings(n):
+    return [(n, lines) for lines in uncrossed_sets(n) if len(lines) == n - 3]
+
+
+def is_room(n, lines, corners):
+    """Point 8, word by word, of a rising tuple of corners."""
+    around = list(zip(corners, corners[1:])) + [(corners[0], corners[-1])]
+    if not all(p in sides_of(n) or p in lines for p in around):
+        return False
+    return all(p in around for p in lines if p[0] in corners and p[1] in corners)
+
+
+def rooms_by_the_words(n, lines):
+    return sorted(corners for size in range(3, n + 1) for corners in combinations(range(n), size)
+                  if is_room(n, lines, corners))
+
+
+def fan_lines(n, corner):
+    """The lines of the cutting all of whose lines have the corner."""
+    return tuple(p for p in lines_of(n) if corner in p)
+
+
+def zigzag_lines(n):
+    """The lines of a cutting that go to and fro between both ends of the floor."""
+    low, high, found = 0, n - 1, []
+    while len(found) < n - 3:
+        if len(found) % 2 == 0:
+            low += 1
+        else:
+            high -= 1
+        found.append((low, high))
+    return tuple(sorted(found))

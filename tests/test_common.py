@@ -1,0 +1,30 @@
+import unittest
+
+from friezeyard.common import has_pair, is_two
+from tests.helper import SIXTY
+
+CUT = (5, ((1, 3), (1, 4)))
+
+
+class CommonTest(unittest.TestCase):
+    def test_two_whole_numbers(self):
+        for thing in ((0, 1), (2, 0), (3, 3), (-1, SIXTY)):
+            self.assertIs(is_two(thing), True, thing)
+
+    def test_anything_else(self):
+        for thing in (None, 1, "01", [0, 1], {0: 1, 1: 2}, (), (0,), (0, 1, 2)):
+            self.assertIs(is_two(thing), False, thing)
+        for thing in ((0, True), (False, 1), (0, "1"), (0, 1.0), (None, 1)):
+            self.assertIs(is_two(thing), False, thing)
+
+    def test_a_cutting_has_its_sides_and_its_lines(self):
+        for p in ((0, 1), (1, 2), (2, 3), (3, 4), (0, 4), (1, 3), (1, 4)):
+            self.assertIs(has_pair(CUT, p), True, p)
+
+    def test_a_cutting_has_nothing_else(self):
+        for p in ((0, 2), (0, 3), (2, 4), (1, 0), (3, 1), (4, 5), (-1, 0), (True, 3), (1, 3, 4), [1, 3], None, "13"):
+            self.assertIs(has_pair(CUT, p), False, p)
+
+
+if __name__ == "__main__":
+    unittest.main()
