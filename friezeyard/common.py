@@ -1,5 +1,6 @@
 """What several files of the program need."""
 
+from friezeyard.errors import NoRow
 from friezeyard.pairs import is_side, is_whole
 
 
@@ -10,3 +11,14 @@ def is_two(thing):
 # is_two is asked first: (True, 3) equals (1, 3), and would else be found among the lines.
 def has_pair(cut, p):
     return is_two(p) and (is_side(cut[0], p) or p in cut[1])
+
+
+def is_floor(thing):
+    return is_whole(thing) and 3 <= thing <= 60
+
+
+def check_row(thing):
+    if not isinstance(thing, list) or not is_floor(len(thing)):
+        raise NoRow("no list of 3 to 60 numbers")
+    if not all([is_whole(number) for number in thing]):
+        raise NoRow("a row holds whole numbers alone")

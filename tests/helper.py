@@ -14,7 +14,8 @@ def sides_of(n):
 
 
 def lines_of(n):
-    return [p for p in all_pairs(n) if p not in sides_of(n)]
+    sides = set(sides_of(n))
+    return [p for p in all_pairs(n) if p not in sides]
 
 
 def do_cross(p, q):
@@ -64,3 +65,34 @@ def zigzag_lines(n):
             high -= 1
         found.append((low, high))
     return tuple(sorted(found))
+
+
+def numbers_by_the_words(n, lines):
+    """How many triangles of the cutting have each corner; a triangle of a cutting is three joined corners."""
+    joined = set(sides_of(n)) | set(lines)
+    found = [corners for corners in combinations(range(n), 3) if all(p in joined for p in combinations(corners, 2))]
+    return [len([corners for corners in found if c in corners]) for c in range(n)]
+
+
+def nested_lines(n):
+    """The lines of a cutting that halves the floor, and then each part of it, again and again."""
+    found, parts = [], [(0, n - 1)]
+    while parts:
+        a, b = parts.pop()
+        if b - a > 1:
+            middle = (a + b) // 2
+            parts += [(a, middle), (middle, b)]
+            found += [p for p in ((a, middle), (middle, b)) if p in lines_of(n)]
+    return tuple(sorted(found))
+
+
+def some_cuttings(n):
+    """A few cuttings of a great floor, unlike each other."""
+    return [(n, lines) for lines in (fan_lines(n, 0), fan_lines(n, n // 2), fan_lines(n, n - 1), zigzag_lines(n),
+                                     nested_lines(n))]
+
+
+NO_WHOLE_NUMBERS = (None, True, False, "", "3", "0", (), (3,), [], [3], {}, {3: 3}, 3.0, 0.0, object())
+NO_ROWS = (None, True, 3, "111", "", (), (1, 1, 1), (1, 2, 1, 2), {0: 1, 1: 1, 2: 1}, {1, 2, 3}, range(3), 1.0, object(),
+           [], [1], [1, 1], [1] * 61, [1] * 62, [0] * 61, [True, 1, 1], [1, True, True], [1, 1, False], [1, 1, "1"],
+           [1, 1, None], [1, 1, 1.0], [1, 1, (1,)], [[1, 1, 1]], [[1], [1], [1]], [1, 2, 1, 2, None], [True] * 60)

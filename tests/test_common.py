@@ -1,7 +1,8 @@
 import unittest
 
-from friezeyard.common import has_pair, is_two
-from tests.helper import SIXTY
+from friezeyard.common import check_row, has_pair, is_floor, is_two
+from friezeyard.errors import NoRow
+from tests.helper import NO_ROWS, NO_WHOLE_NUMBERS, SIXTY
 
 CUT = (5, ((1, 3), (1, 4)))
 
@@ -24,6 +25,17 @@ class CommonTest(unittest.TestCase):
     def test_a_cutting_has_nothing_else(self):
         for p in ((0, 2), (0, 3), (2, 4), (1, 0), (3, 1), (4, 5), (-1, 0), (True, 3), (1, 3, 4), [1, 3], None, "13"):
             self.assertIs(has_pair(CUT, p), False, p)
+
+    def test_floors_have_three_to_sixty_corners(self):
+        self.assertEqual([n for n in range(-5, 100) if is_floor(n)], list(range(3, 61)))
+        for thing in NO_WHOLE_NUMBERS + (SIXTY, -SIXTY):
+            self.assertIs(is_floor(thing), False, thing)
+
+    def test_rows_hold_three_to_sixty_whole_numbers(self):
+        for row in ([1, 1, 1], [0, -5, SIXTY], [2] * 60):
+            self.assertIsNone(check_row(row))
+        for thing in NO_ROWS:
+            self.assertRaises(NoRow, check_row, thing)
 
 
 if __name__ == "__main__":

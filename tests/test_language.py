@@ -21,6 +21,9 @@ ATTRIBUTES = """
     append clear copy count endswith extend find get index insert isalnum isalpha isdigit islower isspace isupper items
     join keys ljust lower lstrip partition pop remove replace reverse rfind rjust rpartition rsplit rstrip setdefault
     split splitlines startswith strip update upper values zfill bit_length add discard title""".split()
+WALKED = ["zip", "enumerate", "reversed", "range", "items", "keys", "values"]
+WALKERS = ["list", "tuple", "dict", "sorted", "sum", "any", "all", "enumerate", "zip", "join"]
+IS_BESIDE = ["None", "True", "False"]
 TWO_UNDERSCORES = ["__init__", "__eq__", "__repr__", "__str__", "__len__"]
 WORDS = re.compile(r"\b(type|typing|typing_extensions|enum|Enum|IntEnum|StrEnum|Flag|IntFlag|Generic|Protocol|ABC"
                    r"|ABCMeta|namedtuple|NamedTuple|TypedDict|TYPE_CHECKING|abstractmethod)\b"
@@ -54,6 +57,11 @@ def fault_of_node(node, tree):
         return "a function that is decorated or too long"
     if kind == "ClassDef" and (node.decorator_list or node.keywords or len(node.bases) > 1):
         return "no plain class"
+    if kind == "BinOp" and isinstance(node.op, ast.Pow) and not isinstance(node.right, ast.Constant):
+        return "a power that is not written out"
+    if kind == "Compare" and [op for op in node.ops if isinstance(op, (ast.Is, ast.IsNot))]:
+        if not [side for side in [node.left] + node.comparators if repr(getattr(side, "value", 0)) in IS_BESIDE]:
+            return "is beside another thing than None, True and False"
     if kind == "ClassDef" and [part for part in node.body if not isinstance(part, (ast.FunctionDef, ast.Pass))]:
         return "a class with more than methods"
     return fault_of_name(node)
@@ -88,6 +96,24 @@ def imports_of(tree):
     return [node for node in ast.walk(tree) if isinstance(node, ast.ImportFrom)]
 
 
+def locals_of(tree):
+    """The parameters, and the names given a value within a def."""
+    names = [node.arg for node in ast.walk(tree) if isinstance(node, ast.arg)]
+    for part in [part for part in ast.walk(tree) if isinstance(part, ast.FunctionDef)]:
+        names += [node.id for node in ast.walk(part) if isinstance(node, ast.Name) and isinstance(node.ctx, ast.Store)]
+    return names
+
+
+def walked(tree):
+    """The values that are walked on the spot."""
+    found = [node.iter for node in ast.walk(tree) if isinstance(node, (ast.For, ast.comprehension))]
+    for node in [node for node in ast.walk(tree) if isinstance(node, ast.Call) and node.args]:
+        name = getattr(node.func, "id", getattr(node.func, "attr", None))
+        if name in WALKERS or name in ("min", "max") and len(node.args) == 1:
+            found += node.args if name == "zip" else node.args[:1]
+    return found
+
+
 class LanguageTest(unittest.TestCase):
     def setUp(self):
         self.files = sorted(path for path in PACKAGE.rglob("*") if path.is_file() and "__pycache__" not in path.parts)
@@ -117,6 +143,18 @@ class LanguageTest(unittest.TestCase):
         for stem, tree in self.trees.items():
             names = defined(tree) + [alias.name for node in imports_of(tree) for alias in node.names]
             self.assertEqual(len(names), len(set(names)), stem)
+
+    def test_no_parameter_and_no_local_is_called_like_an_import_or_a_class(self):
+        for stem, tree in self.trees.items():
+            taken = [alias.name for node in imports_of(tree) for alias in node.names]
+            taken += [part.name for part in tree.body if isinstance(part, ast.ClassDef)]
+            self.assertFalse(set(taken) & set(locals_of(tree)), stem)
+
+    def test_what_is_to_be_walked_at_once_is(self):
+        for stem, tree in self.trees.items():
+            for node in [node for node in ast.walk(tree) if isinstance(node, ast.Call)]:
+                if getattr(node.func, "id", getattr(node.func, "attr", None)) in WALKED:
+                    self.assertIn(node, walked(tree), (stem, node.lineno))
 
     def test_imports_are_the_packages_own_from_the_defining_file(self):
         for stem, tree in self.trees.items():
