@@ -1,6 +1,6 @@
 """What several files of the program need."""
 
-from friezeyard.errors import NoRow
+from friezeyard.errors import NoCorner, NoRow
 from friezeyard.pairs import is_side, is_whole
 
 
@@ -22,3 +22,8 @@ def check_row(thing):
         raise NoRow("no list of 3 to 60 numbers")
     if not all([is_whole(number) for number in thing]):
         raise NoRow("a row holds whole numbers alone")
+
+
+def check_corner(cut, thing):
+    if not is_whole(thing) or not 0 <= thing < cut[0]:
+        raise NoCorner("no corner of the floor")

@@ -96,3 +96,23 @@ NO_WHOLE_NUMBERS = (None, True, False, "", "3", "0", (), (3,), [], [3], {}, {3: 
 NO_ROWS = (None, True, 3, "111", "", (), (1, 1, 1), (1, 2, 1, 2), {0: 1, 1: 1, 2: 1}, {1, 2, 3}, range(3), 1.0, object(),
            [], [1], [1, 1], [1] * 61, [1] * 62, [0] * 61, [True, 1, 1], [1, True, True], [1, 1, False], [1, 1, "1"],
            [1, 1, None], [1, 1, 1.0], [1, 1, (1,)], [[1, 1, 1]], [[1], [1], [1]], [1, 2, 1, 2, None], [True] * 60)
+
+
+def no_corners(n):
+    """Things of every kind that are no corners of a floor of n."""
+    return NO_WHOLE_NUMBERS + (-1, -n, n, n + 1, SIXTY, -SIXTY, (0, 1), [0], "1", {0: 0})
+
+
+def band_by_the_words(row, i, j):
+    """m(i, j) of point 14, reckoned step by step upwards or downwards."""
+    n, last, here, at = len(row), 0, 1, i + 1
+    while at < j:
+        last, here, at = here, row[at % n] * here - last, at + 1
+    while at > j:
+        last, here, at = row[(at - 1) % n] * last - here, last, at - 1
+    return here
+
+
+def rows_near(row):
+    """A few rows that differ from the row at one place."""
+    return [row[:k] + [row[k] + by] + row[k + 1:] for k in range(len(row)) for by in (-1, 1)]

@@ -1,8 +1,8 @@
 import unittest
 
-from friezeyard.common import check_row, has_pair, is_floor, is_two
-from friezeyard.errors import NoRow
-from tests.helper import NO_ROWS, NO_WHOLE_NUMBERS, SIXTY
+from friezeyard.common import check_corner, check_row, has_pair, is_floor, is_two
+from friezeyard.errors import NoCorner, NoRow
+from tests.helper import NO_ROWS, NO_WHOLE_NUMBERS, SIXTY, no_corners
 
 CUT = (5, ((1, 3), (1, 4)))
 
@@ -36,6 +36,12 @@ class CommonTest(unittest.TestCase):
             self.assertIsNone(check_row(row))
         for thing in NO_ROWS:
             self.assertRaises(NoRow, check_row, thing)
+
+    def test_corners(self):
+        for corner in range(5):
+            self.assertIsNone(check_corner(CUT, corner))
+        for thing in no_corners(5):
+            self.assertRaises(NoCorner, check_corner, CUT, thing)
 
 
 if __name__ == "__main__":

@@ -1,0 +1,22 @@
+"""The spread of a cutting from a corner [18]."""
+
+from friezeyard.common import check_corner
+from friezeyard.rooms import triangles
+
+
+# A corner in the middle of no triangle makes a side or a line with the first one, and keeps its 1.
+def spread(cut, corner):
+    check_corner(cut, corner)
+    found = [1] * cut[0]
+    found[corner] = 0
+    for x, y, z in met_from(cut, corner):
+        found[y] = found[x] + found[z]
+    return found
+
+
+# The wider a triangle lies, the nearer it is to the corner: so x and z are known when y is asked.
+def met_from(cut, corner):
+    n = cut[0]
+    met = [sorted([(c - corner) % n for c in corners]) for corners in triangles(cut) if corner not in corners]
+    wide_first = sorted(met, key=lambda steps: steps[0] - steps[2])
+    return [tuple([(step + corner) % n for step in steps]) for steps in wide_first]
