@@ -1,6 +1,6 @@
 """What several files of the program need."""
 
-from friezeyard.errors import NoCorner, NoRow
+from friezeyard.errors import NoCorner, NoLine, NoRow
 from friezeyard.pairs import is_side, is_whole
 
 
@@ -11,6 +11,16 @@ def is_two(thing):
 # is_two is asked first: (True, 3) equals (1, 3), and would else be found among the lines.
 def has_pair(cut, p):
     return is_two(p) and (is_side(cut[0], p) or p in cut[1])
+
+
+def check_line(cut, p):
+    if not is_two(p) or p not in cut[1]:
+        raise NoLine("no line of the cutting")
+
+
+def check_pair(cut, p):
+    if not has_pair(cut, p):
+        raise NoLine("no side and no line of the cutting")
 
 
 def is_floor(thing):

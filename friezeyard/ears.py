@@ -23,12 +23,13 @@ def shorn(cut, corner):
         raise NoEar("the corner can't be taken off")
     new_side = neighbours(n, corner)
     lines = [(moved(a, corner, -1), moved(b, corner, -1)) for a, b in cut[1] if (a, b) != new_side]
-    return (n - 1, tuple(sorted(lines)))
+    return (n - 1, tuple(lines))
 
 
 def neighbours(n, corner):
     return pair((corner - 1) % n, (corner + 1) % n)
 
 
+# No corner passes another one: so lines that stand sorted stay so.
 def moved(corner, above, by):
     return corner + by if corner > above else corner

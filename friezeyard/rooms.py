@@ -1,7 +1,6 @@
 """The rooms into which lines cut a floor, the triangles of a cutting, and third corners [8]."""
 
-from friezeyard.common import has_pair
-from friezeyard.errors import NoLine
+from friezeyard.common import check_pair
 
 
 # The first and the last corner of a room are a line or the side (0, n - 1), and each of these
@@ -29,7 +28,6 @@ def triangles(cut):
 
 
 def thirds(cut, p):
-    if not has_pair(cut, p):
-        raise NoLine("no side and no line of the cutting")
+    check_pair(cut, p)
     both = [corners for corners in triangles(cut) if p[0] in corners and p[1] in corners]
     return sorted([sum(corners) - sum(p) for corners in both])

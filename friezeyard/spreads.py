@@ -4,7 +4,7 @@ from friezeyard.common import check_corner
 from friezeyard.rooms import triangles
 
 
-# A corner in the middle of no triangle makes a side or a line with the first one, and keeps its 1.
+# A corner that is y of no triangle makes a side or a line with the first one, and keeps its 1.
 def spread(cut, corner):
     check_corner(cut, corner)
     found = [1] * cut[0]
@@ -17,6 +17,10 @@ def spread(cut, corner):
 # The wider a triangle lies, the nearer it is to the corner: so x and z are known when y is asked.
 def met_from(cut, corner):
     n = cut[0]
-    met = [sorted([(c - corner) % n for c in corners]) for corners in triangles(cut) if corner not in corners]
-    wide_first = sorted(met, key=lambda steps: steps[0] - steps[2])
-    return [tuple([(step + corner) % n for step in steps]) for steps in wide_first]
+    met = [going_round(n, corner, corners) for corners in triangles(cut) if corner not in corners]
+    return sorted(met, key=lambda corners: (corners[0] - corners[2]) % n)
+
+
+# x, y, z: in the order in which they are met, going round upwards from the corner.
+def going_round(n, corner, corners):
+    return sorted(corners, key=lambda each: (each - corner) % n)

@@ -116,3 +116,10 @@ def band_by_the_words(row, i, j):
 def rows_near(row):
     """A few rows that differ from the row at one place."""
     return [row[:k] + [row[k] + by] + row[k + 1:] for k in range(len(row)) for by in (-1, 1)]
+
+
+def no_pairs_of(n, pairs):
+    """Tuples of two whole numbers that are none of the pairs of corners given, turned about and beyond the floor too."""
+    about = [(b, a) for a, b in all_pairs(n)] + [(c, c) for c in range(n)]
+    beyond = [(-1, 0), (-1, 2), (0, n), (2, n), (n - 1, n), (n, n + 2), (-3, -1), (0, SIXTY), (-SIXTY, 2), (SIXTY, 0)]
+    return [p for p in all_pairs(n) if p not in pairs] + about + beyond

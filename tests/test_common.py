@@ -1,10 +1,13 @@
 import unittest
 
-from friezeyard.common import check_corner, check_row, has_pair, is_floor, is_two
-from friezeyard.errors import NoCorner, NoRow
+from friezeyard.common import check_corner, check_line, check_pair, check_row, has_pair, is_floor, is_two
+from friezeyard.errors import NoCorner, NoLine, NoRow
 from tests.helper import NO_ROWS, NO_WHOLE_NUMBERS, SIXTY, no_corners
 
 CUT = (5, ((1, 3), (1, 4)))
+LINES = ((1, 3), (1, 4))
+SIDES = ((0, 1), (1, 2), (2, 3), (3, 4), (0, 4))
+NEITHER = ((0, 2), (0, 3), (2, 4), (1, 0), (3, 1), (4, 5), (-1, 0), (True, 3), (1, 3, 4), [1, 3], None, "13")
 
 
 class CommonTest(unittest.TestCase):
@@ -19,12 +22,20 @@ class CommonTest(unittest.TestCase):
             self.assertIs(is_two(thing), False, thing)
 
     def test_a_cutting_has_its_sides_and_its_lines(self):
-        for p in ((0, 1), (1, 2), (2, 3), (3, 4), (0, 4), (1, 3), (1, 4)):
+        for p in SIDES + LINES:
             self.assertIs(has_pair(CUT, p), True, p)
+            self.assertIsNone(check_pair(CUT, p))
 
     def test_a_cutting_has_nothing_else(self):
-        for p in ((0, 2), (0, 3), (2, 4), (1, 0), (3, 1), (4, 5), (-1, 0), (True, 3), (1, 3, 4), [1, 3], None, "13"):
+        for p in NEITHER:
             self.assertIs(has_pair(CUT, p), False, p)
+            self.assertRaises(NoLine, check_pair, CUT, p)
+
+    def test_sides_are_no_lines(self):
+        for p in LINES:
+            self.assertIsNone(check_line(CUT, p))
+        for p in SIDES + NEITHER:
+            self.assertRaises(NoLine, check_line, CUT, p)
 
     def test_floors_have_three_to_sixty_corners(self):
         self.assertEqual([n for n in range(-5, 100) if is_floor(n)], list(range(3, 61)))
