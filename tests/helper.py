@@ -93,9 +93,10 @@ def some_cuttings(n):
 
 
 NO_WHOLE_NUMBERS = (None, True, False, "", "3", "0", (), (3,), [], [3], {}, {3: 3}, 3.0, 0.0, object())
-NO_ROWS = (None, True, 3, "111", "", (), (1, 1, 1), (1, 2, 1, 2), {0: 1, 1: 1, 2: 1}, {1, 2, 3}, range(3), 1.0, object(),
-           [], [1], [1, 1], [1] * 61, [1] * 62, [0] * 61, [True, 1, 1], [1, True, True], [1, 1, False], [1, 1, "1"],
-           [1, 1, None], [1, 1, 1.0], [1, 1, (1,)], [[1, 1, 1]], [[1], [1], [1]], [1, 2, 1, 2, None], [True] * 60)
+NO_ROWS = (None, True, 3, "111", "", (), (1, 1, 1), (1, 2, 1, 2), {0: 1, 1: 1, 2: 1}, {1, 2, 3}, range(3), 1.0,
+           object(), [], [1], [1, 1], [1] * 61, [1] * 62, [0] * 61, [True, 1, 1], [1, True, True], [1, 1, False],
+           [1, 1, "1"], [1, 1, None], [1, 1, 1.0], [1, 1, (1,)], [[1, 1, 1]], [[1], [1], [1]], [1, 2, 1, 2, None],
+           [True] * 60)
 
 
 def no_corners(n):
@@ -119,7 +120,7 @@ def rows_near(row):
 
 
 def no_pairs_of(n, pairs):
-    """Tuples of two whole numbers that are none of the pairs of corners given, turned about and beyond the floor too."""
+    """Tuples of two whole numbers that are none of the pairs given, turned about and beyond the floor too."""
     about = [(b, a) for a, b in all_pairs(n)] + [(c, c) for c in range(n)]
     beyond = [(-1, 0), (-1, 2), (0, n), (2, n), (n - 1, n), (n, n + 2), (-3, -1), (0, SIXTY), (-SIXTY, 2), (SIXTY, 0)]
     return [p for p in all_pairs(n) if p not in pairs] + about + beyond

@@ -8,10 +8,11 @@ from tests.helper import (NO_WHOLE_NUMBERS, SIXTY, all_cuttings, do_cross, fan_l
                           some_cuttings, uncrossed_sets, zigzag_lines)
 
 HEXAGON = (6, ((0, 2), (0, 4), (2, 4)))
-NO_LINES = (None, True, 1, "", "02", "0-2", [0, 2], [], {}, {0: 2}, {0, 2}, 0.2, object(), (), (0,), (0, 2, 4), (0, 2, 2),
-            (0, True), (True, 3), (False, 2), (True, True), (0, None), (0, "2"), ("0", "2"), (0, 2.0), ((0, 2), (0, 4)),
-            ((0, 2),), (0, (2,)), (2, 2), (0, 0), (5, 5), (6, 6), (-1, -1), (0, 1), (1, 0), (4, 5), (5, 4), (0, 5),
-            (5, 0), (-1, 1), (1, -1), (-1, 3), (0, 6), (6, 0), (2, 6), (6, 8), (8, 6), (-4, -2), (0, SIXTY), (-SIXTY, 2))
+NO_LINES = (None, True, 1, "", "02", "0-2", [0, 2], [], {}, {0: 2}, {0, 2}, 0.2, object(), (), (0,), (0, 2, 4),
+            (0, 2, 2), (0, True), (True, 3), (False, 2), (True, True), (0, None), (0, "2"), ("0", "2"), (0, 2.0),
+            ((0, 2), (0, 4)), ((0, 2),), (0, (2,)), (2, 2), (0, 0), (5, 5), (6, 6), (-1, -1), (0, 1), (1, 0), (4, 5),
+            (5, 4), (0, 5), (5, 0), (-1, 1), (1, -1), (-1, 3), (0, 6), (6, 0), (2, 6), (6, 8), (8, 6), (-4, -2),
+            (0, SIXTY), (-SIXTY, 2))
 
 
 def refusal(n, lines):
@@ -51,7 +52,8 @@ class CuttingTest(unittest.TestCase):
 
     def test_lines_are_sorted_by_the_first_corner_then_by_the_second(self):
         given = [(10, 8), (0, 10), (8, 2), (0, 8), (6, 8), (2, 6), (0, 2), (3, 6), (5, 3)]
-        self.assertEqual(cutting(12, given)[1], ((0, 2), (0, 8), (0, 10), (2, 6), (2, 8), (3, 5), (3, 6), (6, 8), (8, 10)))
+        self.assertEqual(cutting(12, given)[1],
+                         ((0, 2), (0, 8), (0, 10), (2, 6), (2, 8), (3, 5), (3, 6), (6, 8), (8, 10)))
 
     def test_what_is_handed_in_stays(self):
         for given in ([(4, 2), (0, 4), (2, 0)], [(4, 2)], [(4, 2), (1, 3)], [(4, 2), (2, 4)], [(4, 2), None, [1, 3]]):
