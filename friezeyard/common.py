@@ -1,6 +1,6 @@
 """What several files of the program need."""
 
-from friezeyard.errors import NoCorner, NoLine, NoRow
+from friezeyard.errors import NoCorner, NoFloor, NoLine, NoRow
 from friezeyard.pairs import is_side, is_whole
 
 
@@ -27,6 +27,11 @@ def is_floor(thing):
     return is_whole(thing) and 3 <= thing <= 60
 
 
+def check_floor(thing):
+    if not is_floor(thing):
+        raise NoFloor("a floor has 3 to 60 corners")
+
+
 def check_row(thing):
     if not isinstance(thing, list) or not is_floor(len(thing)):
         raise NoRow("no list of 3 to 60 numbers")
@@ -34,6 +39,11 @@ def check_row(thing):
         raise NoRow("a row holds whole numbers alone")
 
 
-def check_corner(cut, thing):
-    if not is_whole(thing) or not 0 <= thing < cut[0]:
+def check_corner(n, thing):
+    if not is_whole(thing) or not 0 <= thing < n:
         raise NoCorner("no corner of the floor")
+
+
+# The pair of the other two corners of a triangle.
+def opposite(corners, corner):
+    return tuple([other for other in corners if other != corner])

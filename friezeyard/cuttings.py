@@ -1,14 +1,13 @@
 """A cutting made of the number of corners and a list of lines [6, 7]."""
 
-from friezeyard.common import is_floor, is_two
-from friezeyard.errors import Crossed, NoFloor, NoLine, NotFull
+from friezeyard.common import check_floor, is_two
+from friezeyard.errors import Crossed, NoLine, NotFull
 from friezeyard.pairs import cross, is_line, pair
 from friezeyard.rooms import rooms
 
 
 def cutting(n, lines):
-    if not is_floor(n):
-        raise NoFloor("a floor has 3 to 60 corners")
+    check_floor(n)
     found = [line_of(n, thing) for thing in lines]
     check_uncrossed(found)
     if len(found) < n - 3:

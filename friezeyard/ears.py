@@ -7,7 +7,7 @@ from friezeyard.pairs import pair
 
 
 def grown(cut, at):
-    check_corner(cut, at)
+    check_corner(cut[0], at)
     n = cut[0] + 1
     if n > 60:
         raise TooMany("the floor has 60 corners already")
@@ -17,7 +17,7 @@ def grown(cut, at):
 
 
 def shorn(cut, corner):
-    check_corner(cut, corner)
+    check_corner(cut[0], corner)
     n = cut[0]
     if n == 3 or numbers(cut)[corner] != 1:
         raise NoEar("the corner can't be taken off")

@@ -7,8 +7,8 @@ from friezeyard.rooms import triangles
 
 # With alike corners one corner more waits than there are triangles.
 def sharings(cut, i, j):
-    check_corner(cut, i)
-    check_corner(cut, j)
+    check_corner(cut[0], i)
+    check_corner(cut[0], j)
     if cut[0] > 12:
         raise TooMany("sharings are told of at most twelve corners")
     if i == j:

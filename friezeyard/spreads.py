@@ -6,7 +6,7 @@ from friezeyard.rooms import triangles
 
 # A corner that is y of no triangle makes a side or a line with the first one, and keeps its 1.
 def spread(cut, corner):
-    check_corner(cut, corner)
+    check_corner(cut[0], corner)
     found = [1] * cut[0]
     found[corner] = 0
     for x, y, z in met_from(cut, corner):

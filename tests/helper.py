@@ -124,3 +124,50 @@ def no_pairs_of(n, pairs):
     about = [(b, a) for a, b in all_pairs(n)] + [(c, c) for c in range(n)]
     beyond = [(-1, 0), (-1, 2), (0, n), (2, n), (n - 1, n), (n, n + 2), (-3, -1), (0, SIXTY), (-SIXTY, 2), (SIXTY, 0)]
     return [p for p in all_pairs(n) if p not in pairs] + about + beyond
+
+
+def turn_over(cut, line):
+    """The cutting and the new line where a line is turned: its corners are joined with two others, each with both."""
+    n, lines = cut
+    if line not in lines:
+        raise AssertionError(f"{line} is no line of {cut}")
+    joined = set(sides_of(n)) | set(lines)
+    new = tuple(c for c in range(n) if c not in line and all(tuple(sorted((c, end))) in joined for end in line))
+    return (n, tuple(sorted(set(lines) - {line} | {new}))), new
+
+
+def all_turns(cut):
+    return [turn_over(cut, line)[0] for line in cut[1]]
+
+
+def walk_over(cut, way):
+    """All cuttings on a way of turnings, and all lines that came."""
+    cuts, came = [cut], []
+    for line in way:
+        now, new = turn_over(cuts[-1], line)
+        cuts.append(now)
+        came.append(new)
+    return cuts, came
+
+
+def distances_by_steps(cut):
+    """How many turnings lead from the cutting to each other one at least, walked step by step."""
+    found, front, steps = {cut: 0}, [cut], 0
+    while front:
+        steps += 1
+        front = sorted({other for now in front for other in all_turns(now)} - set(found))
+        found.update({other: steps for other in front})
+    return found
+
+
+def drawn_cutting(n, draw):
+    """A cutting, each stretch of which is parted at a drawn corner; draw is a random.Random with a seed."""
+    found, parts = [], [(0, n - 1)]
+    while parts:
+        a, b = parts.pop()
+        if b - a > 1:
+            middle = draw.randrange(a + 1, b)
+            parts += [(a, middle), (middle, b)]
+        if b - a > 1 and (a, b) != (0, n - 1):
+            found.append((a, b))
+    return n, tuple(sorted(found))

@@ -1,7 +1,8 @@
 import unittest
 
-from friezeyard.common import check_corner, check_line, check_pair, check_row, has_pair, is_floor, is_two
-from friezeyard.errors import NoCorner, NoLine, NoRow
+from friezeyard.common import (check_corner, check_floor, check_line, check_pair, check_row, has_pair, is_floor,
+                               is_two, opposite)
+from friezeyard.errors import NoCorner, NoFloor, NoLine, NoRow
 from tests.helper import NO_ROWS, NO_WHOLE_NUMBERS, SIXTY, no_corners
 
 CUT = (5, ((1, 3), (1, 4)))
@@ -39,8 +40,11 @@ class CommonTest(unittest.TestCase):
 
     def test_floors_have_three_to_sixty_corners(self):
         self.assertEqual([n for n in range(-5, 100) if is_floor(n)], list(range(3, 61)))
-        for thing in NO_WHOLE_NUMBERS + (SIXTY, -SIXTY):
+        for n in range(3, 61):
+            self.assertIsNone(check_floor(n))
+        for thing in NO_WHOLE_NUMBERS + (2, 61, 0, -3, SIXTY, -SIXTY):
             self.assertIs(is_floor(thing), False, thing)
+            self.assertRaises(NoFloor, check_floor, thing)
 
     def test_rows_hold_three_to_sixty_whole_numbers(self):
         for row in ([1, 1, 1], [0, -5, SIXTY], [2] * 60):
@@ -50,9 +54,12 @@ class CommonTest(unittest.TestCase):
 
     def test_corners(self):
         for corner in range(5):
-            self.assertIsNone(check_corner(CUT, corner))
+            self.assertIsNone(check_corner(5, corner))
         for thing in no_corners(5):
-            self.assertRaises(NoCorner, check_corner, CUT, thing)
+            self.assertRaises(NoCorner, check_corner, 5, thing)
+
+    def test_opposite_to_a_corner_of_a_triangle(self):
+        self.assertEqual([opposite((1, 4, 6), corner) for corner in (1, 4, 6)], [(4, 6), (1, 6), (1, 4)])
 
 
 if __name__ == "__main__":
