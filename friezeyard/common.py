@@ -47,3 +47,26 @@ def check_corner(n, thing):
 # The pair of the other two corners of a triangle.
 def opposite(corners, corner):
     return tuple([other for other in corners if other != corner])
+
+
+# Each sign is asked by itself, as int would also read blanks, a sign ahead, and _ between figures.
+def is_figures(word, most):
+    if not 1 <= len(word) <= most:
+        return False
+    if len(word) > 1 and word[0] == "0":
+        return False
+    return all([sign in "0123456789" for sign in word])
+
+
+# The two numbers of a word A-B, in its order; None for another word.
+def two_read(word):
+    parts = word.split("-")
+    if len(parts) != 2 or not all([is_figures(part, 2) for part in parts]):
+        return None
+    return (int(parts[0]), int(parts[1]))
+
+
+def two_shown(two):
+    a = two[0]
+    b = two[1]
+    return f"{a}-{b}"

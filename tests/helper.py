@@ -93,6 +93,7 @@ def some_cuttings(n):
 
 
 NO_WHOLE_NUMBERS = (None, True, False, "", "3", "0", (), (3,), [], [3], {}, {3: 3}, 3.0, 0.0, object())
+NO_FLOORS = NO_WHOLE_NUMBERS + (2, 1, -1, -3, -60, 61, 62, 100, SIXTY, -SIXTY, "6", [6], (6,), 6.0)
 NO_ROWS = (None, True, 3, "111", "", (), (1, 1, 1), (1, 2, 1, 2), {0: 1, 1: 1, 2: 1}, {1, 2, 3}, range(3), 1.0,
            object(), [], [1], [1, 1], [1] * 61, [1] * 62, [0] * 61, [True, 1, 1], [1, True, True], [1, 1, False],
            [1, 1, "1"], [1, 1, None], [1, 1, 1.0], [1, 1, (1,)], [[1, 1, 1]], [[1], [1], [1]], [1, 2, 1, 2, None],
@@ -171,3 +172,23 @@ def drawn_cutting(n, draw):
         if b - a > 1 and (a, b) != (0, n - 1):
             found.append((a, b))
     return n, tuple(sorted(found))
+
+
+def parts_in_order(a, b):
+    """All cuttings of the stretch from a to b in the order of point 32, each as a list of stretches."""
+    if b == a + 1:
+        return [[]]
+    return [[(a, c), (c, b)] + low + high for c in range(a + 1, b) for low in parts_in_order(a, c)
+            for high in parts_in_order(c, b)]
+
+
+def cuttings_in_order(n):
+    lines = set(lines_of(n))
+    return [(n, tuple(sorted(p for p in parts if p in lines))) for parts in parts_in_order(0, n - 1)]
+
+
+def image_of(cut, by, over):
+    """The cutting mirrored, if it is to be, and then spun by a number, as point 33 says."""
+    n = cut[0]
+    straight = [[(n - c) % n if over else c for c in line] for line in cut[1]]
+    return n, tuple(sorted(tuple(sorted((c + by) % n for c in line)) for line in straight))

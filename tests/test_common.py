@@ -1,9 +1,9 @@
 import unittest
 
-from friezeyard.common import (check_corner, check_floor, check_line, check_pair, check_row, has_pair, is_floor,
-                               is_two, opposite)
+from friezeyard.common import (check_corner, check_floor, check_line, check_pair, check_row, has_pair, is_figures,
+                               is_floor, is_two, opposite, two_read, two_shown)
 from friezeyard.errors import NoCorner, NoFloor, NoLine, NoRow
-from tests.helper import NO_ROWS, NO_WHOLE_NUMBERS, SIXTY, no_corners
+from tests.helper import NO_FLOORS, NO_ROWS, SIXTY, no_corners
 
 CUT = (5, ((1, 3), (1, 4)))
 LINES = ((1, 3), (1, 4))
@@ -42,7 +42,7 @@ class CommonTest(unittest.TestCase):
         self.assertEqual([n for n in range(-5, 100) if is_floor(n)], list(range(3, 61)))
         for n in range(3, 61):
             self.assertIsNone(check_floor(n))
-        for thing in NO_WHOLE_NUMBERS + (2, 61, 0, -3, SIXTY, -SIXTY):
+        for thing in NO_FLOORS:
             self.assertIs(is_floor(thing), False, thing)
             self.assertRaises(NoFloor, check_floor, thing)
 
@@ -60,6 +60,21 @@ class CommonTest(unittest.TestCase):
 
     def test_opposite_to_a_corner_of_a_triangle(self):
         self.assertEqual([opposite((1, 4, 6), corner) for corner in (1, 4, 6)], [(4, 6), (1, 6), (1, 4)])
+
+    def test_figures(self):
+        for word in ("0", "7", "10", "59", "99"):
+            self.assertIs(is_figures(word, 2), True, word)
+        for word in ("", "00", "07", "100", "-1", "+1", "1_", " 1", "1 ", "a", "1a", "1.", "\n1", "-"):
+            self.assertIs(is_figures(word, 2), False, word)
+        self.assertIs(is_figures(str(SIXTY), 60), True)
+        self.assertIs(is_figures(str(SIXTY + 1), 60), False)
+
+    def test_words_of_two_numbers(self):
+        for word, two in (("0-2", (0, 2)), ("2-0", (2, 0)), ("5-5", (5, 5)), ("10-99", (10, 99))):
+            self.assertEqual(two_read(word), two)
+            self.assertEqual(two_shown(two), word)
+        for word in ("", "-", "2", "2-", "-2", "2--3", "2-3-4", "02-3", "2-03", "100-2", "2-100", "a-2", "2-b", "2 -3"):
+            self.assertIsNone(two_read(word), word)
 
 
 if __name__ == "__main__":

@@ -3,11 +3,9 @@ from random import Random
 
 from friezeyard.errors import FloorError, NoCorner, NoFloor
 from friezeyard.fans import fan, to_fan
-from tests.helper import (NO_WHOLE_NUMBERS, SIXTY, all_cuttings, drawn_cutting, fan_lines, no_corners, some_cuttings,
-                          walk_over)
+from tests.helper import NO_FLOORS, all_cuttings, drawn_cutting, fan_lines, no_corners, some_cuttings, walk_over
 
 HEXAGON = (6, ((0, 2), (0, 4), (2, 4)))
-NO_FLOORS = NO_WHOLE_NUMBERS + (2, 1, 0, -1, -3, -60, 61, 62, SIXTY, -SIXTY, "6", [6], (6,), 6.0)
 
 
 class FanTest(unittest.TestCase):

@@ -156,6 +156,29 @@ class LanguageTest(unittest.TestCase):
                 if getattr(node.func, "id", getattr(node.func, "attr", None)) in WALKED:
                     self.assertIn(node, walked(tree), (stem, node.lineno))
 
+    def test_no_name_is_a_method_in_one_class_and_a_value_in_another(self):
+        nodes = [node for tree in self.trees.values() for node in ast.walk(tree)]
+        classes = [node for node in nodes if isinstance(node, ast.ClassDef)]
+        methods = [part.name for node in classes for part in node.body if isinstance(part, ast.FunctionDef)]
+        values = [node.attr for node in nodes if isinstance(node, ast.Attribute) and isinstance(node.ctx, ast.Store)]
+        self.assertFalse(set(methods) & set(values))
+        for node in classes:
+            own = [part.name for part in node.body if isinstance(part, ast.FunctionDef)]
+            self.assertEqual(len(own), len(set(own)), node.name)
+
+    def test_texts_hold_no_percent_sign_and_no_odd_escape(self):
+        for stem, text in self.texts.items():
+            self.assertNotRegex(text, r"\\[^nt\\\"']", stem)
+            for node in ast.walk(self.trees[stem]):
+                if isinstance(node, ast.Constant) and isinstance(node.value, str):
+                    self.assertNotIn("%", node.value, (stem, node.lineno))
+
+    def test_lists_and_dicts_at_the_top_hold_no_list_and_no_dict(self):
+        for stem, tree in self.trees.items():
+            for part in [part for part in tree.body if isinstance(part, ast.Assign)]:
+                inner = [node for node in ast.walk(part.value) if isinstance(node, (ast.List, ast.Dict))]
+                self.assertLessEqual(len(inner), 1, (stem, part.lineno))
+
     def test_imports_are_the_packages_own_from_the_defining_file(self):
         for stem, tree in self.trees.items():
             for node in imports_of(tree):
